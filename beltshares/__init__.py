@@ -1,0 +1,1 @@
+"""Beltshares: works of belts, their rounds and their shares for ever."""
