@@ -107,3 +107,13 @@ def thrown_work(seed):
         ins = ins[many_in:]
         outs = outs[many_out:]
     return Work([Belt(1 + dice.roll(4), 1 + dice.roll(3)) for number in range(size)], knots)
+
+
+def state_fields(state):
+    """The four fields of a state."""
+    return (state.turn, state.cells, state.sides, state.gone)
+
+
+def kept_fields(state):
+    """The four fields of a state as a text, which no later change reaches."""
+    return repr(state_fields(state))
