@@ -117,3 +117,50 @@ def state_fields(state):
 def kept_fields(state):
     """The four fields of a state as a text, which no later change reaches."""
     return repr(state_fields(state))
+
+
+def ring_work():
+    """A ring of a joiner and a parter, into which a source gives and out of which a drain takes."""
+    return Work([Belt(2, 1), Belt(3, 1), Belt(2, 2), Belt(2, 1)],
+                [Source(0, 3, [1, 2]), Joiner([0, 3], 1), Parter(1, [2, 3]), Drain(2, 2)])
+
+
+def carousel_work(room=5, source_pace=3, kinds=(1, 2)):
+    """A ring in which some wares of kind 1 go round for ever, once those of kind 2 stand before a shut drain."""
+    belts = [Belt(1, 1), Belt(1, 1), Belt(1, 1), Belt(room, 1)]
+    return Work(belts, [Source(0, source_pace, list(kinds)), Sieve(0, [1, 2], 1), Joiner([3, 1], 3), Drain(2, 0)])
+
+
+def long_work():
+    """Three lines whose rounds have no short one in common: its round is of 720 turns."""
+    knots = [Source(0, 4, [1, 2, 3, 4, 5]), Source(1, 3, [1, 2, 3, 4, 5, 6]), Source(2, 4, [1, 2, 3, 4])]
+    return Work(one_cell_belts(3), knots + [Drain(belt, 1) for belt in range(3)])
+
+
+def endless_work():
+    """A work whose round is of more than 1000 turns."""
+    knots = [Source(0, 4, [1]), Parter(0, [1, 2, 3, 4]), Parter(1, [5, 6, 7, 8]),
+             Source(9, 3, [1, 2, 3]), Source(10, 4, [1, 2, 3, 4, 5])]
+    return Work(one_cell_belts(11), knots + [Drain(belt, 1) for belt in range(2, 11)])
+
+
+def sample_works():
+    """Works with and without rings, some of which fill up; the round of each is found within 200 turns."""
+    works = [line_work(), line_work(room=6, pace=4, drain_pace=0), line_work(source_pace=3, drain_pace=4, kinds=[1, 2]),
+             ring_work(), carousel_work(), carousel_work(5, 1, [1, 1, 2]), six_kinds_work(), six_kinds_work(shut=True)]
+    return works + [thrown_work(seed) for seed in range(100, 130)]
+
+
+def filling_work(cells, source_pace=1, beside=True):
+    """So many cells, from 13 to 78, that fill up one by one, and beside them two lines with a round of 144 turns.
+
+    With a source of pace 1 and with the lines beside it, its round begins at the turn of that number and is of
+    144 turns; without them all stands still, at the turn at which the last cell is full.
+    """
+    belts = [Belt((cells + place) // 13, 1) for place in range(13)]
+    knots = [Source(0, source_pace, [1]), FirstParter(0, [1, 2, 3, 4]), FirstParter(1, [5, 6, 7, 8]),
+             FirstParter(2, [9, 10, 11, 12])] + [Drain(belt, 0) for belt in range(3, 13)]
+    if beside:
+        belts.extend(one_cell_belts(2))
+        knots.extend([Source(13, 4, [1, 2, 3, 4]), Source(14, 3, [1, 2, 3, 4, 5, 6]), Drain(13, 1), Drain(14, 1)])
+    return Work(belts, knots)

@@ -1,24 +1,13 @@
 import unittest
 
 from beltshares.belts import Belt
-from beltshares.knots import Drain, Joiner, Parter, Source
+from beltshares.knots import Drain, Parter, Source
 from beltshares.plays import log_of, played
 from beltshares.states import empty_state
 from beltshares.turns import moves_of, one_turn
 from beltshares.works import Work
 
-from tests.samples import kept_fields, line_work, six_kinds_work, state_fields, thrown_work, work_fields
-
-
-def ring_work():
-    """A ring of a joiner and a parter, into which a source gives and out of which a drain takes."""
-    return Work([Belt(2, 1), Belt(3, 1), Belt(2, 2), Belt(2, 1)],
-                [Source(0, 3, [1, 2]), Joiner([0, 3], 1), Parter(1, [2, 3]), Drain(2, 2)])
-
-
-def sample_works():
-    return [line_work(), line_work(room=6, pace=4, drain_pace=0), ring_work(), six_kinds_work(),
-            six_kinds_work(shut=True)] + [thrown_work(seed) for seed in range(100, 130)]
+from tests.samples import kept_fields, line_work, sample_works, six_kinds_work, state_fields, work_fields
 
 
 class Plays(unittest.TestCase):
