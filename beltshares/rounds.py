@@ -1,30 +1,28 @@
 """The round of a work, which comes again for ever."""
 
 from beltshares.errors import TooLong
-from beltshares.plays import played
 from beltshares.shapes import shape_of
 from beltshares.states import empty_state
-from beltshares.turns import pass_turn
-
-
-def round_of(work, limit=200):
-    """The tuple (begin, length) of the first round within limit turns; it refuses with TooLong where none is."""
-    state = empty_state(work)
-    turn_by_shape = {}
-    for turn in range(limit + 1):
-        shape = shape_of(work, state)
-        if shape in turn_by_shape:
-            begin = turn_by_shape[shape]
-            return (begin, turn - begin)
-        turn_by_shape[shape] = turn
-        pass_turn(work, state)
-    raise TooLong("no round is found within the limit")
+from beltshares.turns import one_turn
 
 
 def round_ends(work, limit):
     """The states at the begin of the first round and at its end; it refuses with TooLong as round_of does."""
-    found = round_of(work, limit)
-    return (played(work, found[0]), played(work, found[0] + found[1]))
+    state = empty_state(work)
+    state_by_shape = {}
+    for turn in range(limit + 1):
+        shape = shape_of(work, state)
+        if shape in state_by_shape:
+            return (state_by_shape[shape], state)
+        state_by_shape[shape] = state
+        state = one_turn(work, state)
+    raise TooLong("no round is found within the limit")
+
+
+def round_of(work, limit=200):
+    """The tuple (begin, length) of the first round within limit turns; it refuses with TooLong where none is."""
+    ends = round_ends(work, limit)
+    return (ends[0].turn, ends[1].turn - ends[0].turn)
 
 
 def growth_of(before, after):

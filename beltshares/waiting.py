@@ -2,20 +2,25 @@
 
 from beltshares.errors import Moving
 from beltshares.knots import Drain, Sieve
-from beltshares.plays import played
 from beltshares.rounds import growth_of, round_ends
 from beltshares.states import kind_of
 
 
-def still_from(work, limit=200):
-    """The first turn from which on nothing moves any more, or None; it refuses with TooLong as round_of does."""
+def still_state(work, limit):
+    """The state at the first turn from which on nothing moves, or None; it refuses with TooLong as round_of does."""
     ends = round_ends(work, limit)
     # Where no knot moves a ware in a round, no belt does: its wares would lie further on at the round's end.
     for counts in growth_of(ends[0], ends[1]):
         if max(counts) > 0:
             return None
     # What stands still comes again after one beat, so no round begins later than the standing.
-    return ends[0].turn
+    return ends[0]
+
+
+def still_from(work, limit=200):
+    """The first turn from which on nothing moves any more, or None; it refuses with TooLong as round_of does."""
+    state = still_state(work, limit)
+    return None if state is None else state.turn
 
 
 def first_laden(state):
@@ -42,10 +47,9 @@ def waiting_way(work, limit=200):
 
     It refuses with TooLong as round_of does, then with Moving where something moves for ever.
     """
-    turn = still_from(work, limit)
-    if turn is None:
+    state = still_state(work, limit)
+    if state is None:
         raise Moving("the work never stands still")
-    state = played(work, turn)
     way = []
     belt = first_laden(state)
     while belt is not None and belt not in way:
